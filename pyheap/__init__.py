@@ -1,0 +1,1 @@
+"""Pyheap: memory with counts and a collector."""
