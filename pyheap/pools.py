@@ -1,6 +1,7 @@
 """One pool: blocks of one kind, and the order in which it gives them."""
 
 from pyheap.sizes import blocks_in, check_pool_size
+from pyheap.supplies import Supply
 
 
 class Pool:
@@ -11,8 +12,7 @@ class Pool:
         self.pool_size = pool_size
         self.kind = None
         self.block_count = 0
-        self.least_never_out = 0
-        self.came_back = []
+        self.block_supply = Supply()
 
     def draw_for(self, kind):
         """Make the empty pool one of this kind."""
@@ -22,26 +22,21 @@ class Pool:
             return
         self.kind = kind
         self.block_count = block_count
-        self.least_never_out = 0
-        self.came_back = []
+        self.block_supply = Supply()
 
     def hand_out(self):
         """Give a block; None, where all are out."""
-        if self.came_back:
-            return self.came_back.pop()
         if self.is_full():
             return None
-        block = self.least_never_out
-        self.least_never_out += 1
-        return block
+        return self.block_supply.draw()
 
     def hand_back(self, block):
         """Get a block back that is out."""
-        self.came_back.append(block)
+        self.block_supply.get_back(block)
 
     def out_count(self):
         """How many blocks are out."""
-        return self.least_never_out - len(self.came_back)
+        return self.block_supply.out_count()
 
     def is_full(self):
         """Whether all blocks are out, so that the pool is in no row."""

@@ -12,12 +12,15 @@ POOL_STEP = 16
 POOL_HEAD = 48
 
 
+def is_whole(thing):
+    """Whether a thing is a whole number."""
+    # Truths are ints to Python, but the document counts them as no numbers.
+    return isinstance(thing, int) and not isinstance(thing, bool)
+
+
 def is_whole_within(thing, least, greatest):
     """Whether a thing is a whole number from least to greatest."""
-    # Truths are ints to Python, but the document counts them as no numbers.
-    if isinstance(thing, bool) or not isinstance(thing, int):
-        return False
-    return least <= thing <= greatest
+    return is_whole(thing) and least <= thing <= greatest
 
 
 def check_size(thing):

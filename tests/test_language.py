@@ -17,7 +17,7 @@ BUILTINS = set("""
 BUILTIN_METHODS = set("""
     append clear copy count endswith extend find get index insert isalnum isalpha isdigit islower isspace isupper
     items join keys ljust lower lstrip partition pop remove replace reverse rfind rjust rpartition rsplit rstrip
-    setdefault split splitlines startswith strip update upper values zfill bit_length add discard sort isascii
+    setdefault split splitlines startswith strip update upper values zfill bit_length isascii
 """.split())
 BARRED_NAMES = set("""
     register mro elements open input version_info with_traceback add_note attrgetter breakpoint builtins compile
@@ -28,6 +28,8 @@ BARRED_WORDS = re.compile(
     r"\b(type|typing|typing_extensions|enum|Enum|IntEnum|StrEnum|Flag|IntFlag|Generic|Protocol|ABC|ABCMeta|"
     r"namedtuple|NamedTuple|TypedDict|TYPE_CHECKING|abstractmethod)\b|dataclass|overload|contextmanager"
 )
+ITERATED_AT_ONCE = {"range", "zip", "enumerate", "reversed", "items", "keys", "values"}
+MAY_ITERATE = {"list", "tuple", "dict", "sorted", "sum", "any", "all", "enumerate", "zip", "min", "max"}
 DOUBLE_UNDERSCORE = {"__init__", "__eq__", "__repr__", "__len__"}
 BARRED_NODES = (
     ast.Global, ast.AsyncFunctionDef, ast.AsyncFor, ast.AsyncWith, ast.Await, ast.Import, ast.Div,
@@ -59,6 +61,26 @@ def bound_at_module_level(source):
             names.extend(alias.asname or alias.name for alias in node.names)
         elif isinstance(node, ast.Assign):
             names.extend(target.id for target in node.targets)
+    return names
+
+
+def called_name(node):
+    """The name that a call calls, of a function or a method; None of anything else."""
+    if not isinstance(node, ast.Call):
+        return None
+    return getattr(node.func, "id", getattr(node.func, "attr", None))
+
+
+def first_arguments(source, names):
+    """What stands first in the calls of these builtins."""
+    return [node.args[0] for node in source.of(ast.Call) if called_name(node) in names and node.args]
+
+
+def local_names(source):
+    names = {node.arg for node in source.of(ast.arg)}
+    for function in source.of(ast.FunctionDef):
+        stored = [node for node in ast.walk(function) if isinstance(node, ast.Name)]
+        names |= {node.id for node in stored if not isinstance(node.ctx, ast.Load)}
     return names
 
 
@@ -163,6 +185,32 @@ class Language(unittest.TestCase):
                 self.assertEqual(assigned & BUILTINS, set())
                 read = {node.id for node in source.of(ast.Name) if isinstance(node.ctx, ast.Load)}
                 self.assertLessEqual(read - assigned, BUILTINS)
+
+    def test_no_local_name_is_one_of_a_class_or_an_import(self):
+        for source in self.sources:
+            with self.subTest(file=source.path.name):
+                taken = {node.name for node in source.of(ast.ClassDef)}
+                taken |= {alias.asname or alias.name for node in source.of(ast.ImportFrom) for alias in node.names}
+                self.assertEqual(local_names(source) & taken, set())
+
+    def test_ranges_and_the_like_are_iterated_on_the_spot(self):
+        for source in self.sources:
+            with self.subTest(file=source.path.name):
+                allowed = [node.iter for node in source.of(ast.For, ast.comprehension)]
+                allowed += first_arguments(source, MAY_ITERATE)
+                for node in source.of(ast.Call):
+                    if called_name(node) in ITERATED_AT_ONCE:
+                        self.assertIn(node, allowed, ast.unparse(node))
+
+    def test_sets_are_only_counted_or_sorted_and_builtins_take_lists(self):
+        # Stricter than L7 and L24: neither a generator nor a set that is stored is needed here.
+        for source in self.sources:
+            with self.subTest(file=source.path.name):
+                allowed = first_arguments(source, {"len", "sorted"})
+                for node in source.nodes:
+                    if isinstance(node, (ast.Set, ast.SetComp)) or called_name(node) in ("set", "frozenset"):
+                        self.assertIn(node, allowed, ast.unparse(node))
+                self.assertEqual(source.of(ast.GeneratorExp, ast.Yield, ast.YieldFrom), [])
 
     def test_methods_and_attributes(self):
         methods, stored = set(), set()

@@ -1,33 +1,17 @@
 """Sizes, kinds and pool sizes (1.1, 1.2, and what 0.3 says of them)."""
 
-import copy
 import unittest
 
-from pyheap.errors import HeapError, NoNumber, NoSize
+from helping import FAR_OFF, NO_WHOLE_NUMBERS, Refusing
+from pyheap.errors import NoNumber, NoSize
 from pyheap.sizes import blocks_in, kind_of, room_of
 
 KINDS = range(32)
-NO_WHOLE_NUMBERS = (
-    True, False, None, "", "0", "16", "1072", "abc", [], [0], [16], [1072], (), (0,), (16,), (1072,),
-    [[[[[[0]]]]]], ((((((0,),),),),),), [(None, [True, "a"])],
-)
-# Python writes no number of 5000 figures as text, so each subTest below names a
-# thing by where it stands in its table.
-FAR_OFF = (-10 ** 30, -16, 10 ** 30, -10 ** 5000, 10 ** 5000)
 NO_SIZES = (-1, 10000, *FAR_OFF, *NO_WHOLE_NUMBERS)
 NO_KINDS = (-1, 32, *FAR_OFF, *NO_WHOLE_NUMBERS)
 NO_POOL_SIZES = (
     0, 16, 48, 1056, 1071, 1073, 1080, 4088, 4095, 4097, 4112, -1072, *FAR_OFF, *NO_WHOLE_NUMBERS,
 )
-
-
-class Refusing(unittest.TestCase):
-    def assert_refused(self, refusal, function, *things):
-        before = copy.deepcopy(things)
-        with self.assertRaises(HeapError) as caught:
-            function(*things)
-        self.assertEqual(type(caught.exception), refusal)
-        self.assertEqual(things, before)
 
 
 class KindOf(Refusing):
