@@ -82,35 +82,97 @@ def reached(rows, starts):
     return sorted(walked(rows, starts))
 
 
+def left_behind(rows):
+    """All nodes of a dict of rows, as a walk that goes as deep as it can leaves them."""
+    order = []
+    seen = {}
+    for start in rows:
+        path = [] if start in seen else [(start, 0)]
+        seen[start] = True
+        while path:
+            node, at = path.pop()
+            if at == len(rows[node]):
+                order.append(node)
+                continue
+            path.append((node, at + 1))
+            other = rows[node][at]
+            if other not in seen:
+                seen[other] = True
+                path.append((other, 0))
+    return order
+
+
+def turned(rows):
+    """A dict of rows that lead the other way."""
+    back = {node: [] for node in rows}
+    for node in rows:
+        for other in rows[node]:
+            back[other].append(node)
+    return back
+
+
+def group_back_from(back, start, taken):
+    """The start and all nodes not taken yet to which it leads; all of them are taken now."""
+    taken[start] = True
+    group = [start]
+    at = 0
+    while at < len(group):
+        node = group[at]
+        at += 1
+        for other in back[node]:
+            if other not in taken:
+                taken[other] = True
+                group.append(other)
+    return group
+
+
+def ring_groups(rows):
+    """What rings tells, of a dict of rows: the nodes may be any numbers, and any number of them."""
+    back = turned(rows)
+    taken = {}
+    groups = []
+    # Of all nodes that are not taken yet, only its own group leads to the one that was left last.
+    for start in reversed(left_behind(rows)):
+        if start in taken:
+            continue
+        group = group_back_from(back, start, taken)
+        if len(group) > 1 or start in rows[start]:
+            groups.append(sorted(group))
+    return sorted(groups)
+
+
 def rings(rows):
     """A rising list of rising lists: the greatest groups of which each node leads to each."""
     check_graph(rows)
-    # A walk from what a node's slots lead to has the node itself only if it is in a ring.
-    ahead = [walked(rows, row) for row in rows]
-    groups = []
-    for node in range(len(rows)):
-        group = [other for other in sorted(ahead[node]) if node in ahead[other]]
-        # Each ring is told once, by its least node.
-        if group and group[0] == node:
-            groups.append(group)
-    return groups
+    return ring_groups(dict(enumerate(rows)))
+
+
+def outer_marks(rows, counts, order):
+    """A dict that has, for each node of the order, its count, less the slots of the order that lead to it."""
+    marks = {node: counts[node] for node in order}
+    for node in order:
+        for other in rows[node]:
+            if other in marks:
+                marks[other] -= 1
+    return marks
 
 
 def outer_counts(rows, counts, order):
     """A list of tuples (node, many): its count, less the slots of the order that lead to it."""
     check_all(rows, counts, order)
-    leading = slots_leading(rows, order)
-    return [(node, counts[node] - leading[node]) for node in order]
+    return list(outer_marks(rows, counts, order).items())
 
 
-def sifted(rows, counts, order):
-    """A tuple (kept, lost): the nodes that are held from outside the order, and the others."""
-    marks = dict(outer_counts(rows, counts, order))
+def sift(rows, counts, order):
+    """What sifted tells, of lists or dicts of rows and of counts that are known to fit."""
+    marks = outer_marks(rows, counts, order)
     line = list(order)
+    at = 0
     kept = []
     aside = {}
-    while line:
-        node = line.pop(0)
+    while at < len(line):
+        node = line[at]
+        at += 1
         if marks[node] == 0:
             aside[node] = True
             continue
@@ -122,3 +184,9 @@ def sifted(rows, counts, order):
                     del aside[other]
                     line.append(other)
     return (kept, list(aside))
+
+
+def sifted(rows, counts, order):
+    """A tuple (kept, lost): the nodes that are held from outside the order, and the others."""
+    check_all(rows, counts, order)
+    return sift(rows, counts, order)

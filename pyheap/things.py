@@ -2,6 +2,10 @@
 
 from pyheap.sizes import is_whole_within
 
+LEAF = "leaf"
+ROW = "row"
+FIXED = "fixed"
+WEAK = "weak"
 BYTES_OF_FORM = {"leaf": 16, "row": 56, "fixed": 40, "weak": 72}
 BYTES_OF_SLOT = 8
 
@@ -9,15 +13,23 @@ BYTES_OF_SLOT = 8
 class Thing:
     """A thing that nobody holds yet; its slots hold numbers of things, or None.
 
-    It trusts its maker: only rows and fixed things have slots, and only a leaf has extra bytes.
+    It trusts its maker: only rows and fixed things have slots, only a leaf has extra bytes, and only a
+    weak thing has a target. Its target and its watchers, the weak thing that came last first, are told
+    by their numbers; place is the list in which it is tracked, block where its block lies.
     """
 
-    def __init__(self, number, form, *, slots=(), extra=0):
+    def __init__(self, number, form, *, slots=(), steps=(), extra=0, target=None):
         self.number = number
         self.form = form
         self.slots = list(slots)
+        self.steps = steps
         self.extra = extra
+        self.target = target
         self.count = 0
+        self.watchers = []
+        self.is_asked = False
+        self.place = None
+        self.block = None
 
     def byte_count(self):
         """For how many bytes its block is asked."""
@@ -30,3 +42,11 @@ class Thing:
     def held_numbers(self):
         """The numbers of what its slots hold, slot by slot, without those that hold nothing."""
         return [number for number in self.slots if number is not None]
+
+    def may_nest(self):
+        """Whether it is a row or a fixed thing, which may hold others that die within its death."""
+        return self.form in (ROW, FIXED)
+
+    def is_to_be_asked(self):
+        """Whether it has steps to do before it dies."""
+        return self.form != WEAK and self.steps != () and not self.is_asked
