@@ -3,11 +3,11 @@
 import copy
 import unittest
 
-from helping import (
-    FAR_OFF, NO_WHOLE_NUMBERS, Refusing, alive, block_of, called, count_of, counters, listed, past, place_of, seen_world,
-    slots_of, target_of, tours, was_asked, watchers_of,
-)
+from helping import FAR_OFF, NO_WHOLE_NUMBERS, Refusing, block_of, seen_world
 from pyheap.errors import NoNumber
+from pyheap.watching import (
+    alive, called, count_of, counters, listed, past, place_of, slots_of, target_of, tours, was_asked, watchers_of,
+)
 from pyheap.world import World
 
 NO_TRUTHS = tuple(thing for thing in NO_WHOLE_NUMBERS if not isinstance(thing, bool)) + (0, 1, -1, 2, 10 ** 30)

@@ -2,9 +2,9 @@
 
 import unittest
 
-from helping import (
-    block_of, called, count_of, counters, form_of, listed, past, place_of, slots_of, target_of, tours, was_asked,
-    watchers_of,
+from helping import block_of
+from pyheap.watching import (
+    called, count_of, counters, form_of, listed, past, place_of, slots_of, target_of, tours, was_asked, watchers_of,
 )
 from pyheap.world import World
 

@@ -3,12 +3,12 @@
 import copy
 import unittest
 
-from helping import (
-    FAR_OFF, NO_NAMES, NO_WHOLE_NUMBERS, Refusing, block_of, called, count_of, counters, form_of, listed, past,
-    place_of, seen_world, slots_of, target_of, watchers_of,
-)
+from helping import FAR_OFF, NO_NAMES, NO_WHOLE_NUMBERS, Refusing, block_of, seen_world
 from pyheap.errors import (
     Bare, Gone, NoForm, NoName, NoNumber, NoRow, NoSize, NoSlot, NoSteps, NotWeak, NoTarget, NoThing,
+)
+from pyheap.watching import (
+    called, count_of, counters, form_of, listed, past, place_of, slots_of, target_of, watchers_of,
 )
 from pyheap.world import World
 
@@ -20,8 +20,8 @@ NO_STEPS = (
     (("fail", None),), (("collect", 2),), (("collect", "a"),), (("forget",),), (("forget", "A"),), (("forget", ""),),
     (("forget", "abcdefg"),), (("forget", None),), (("forget", 0),), (("forget", ["a"]),), (("forget", ("a",)),),
     (("forget", "a", "b"),), (("forget", "a", 0),), (("Forget", "a"),), (("free", "a"),), (("make", "a"),),
-    (("", "a"),), ((None, "a"),), ((["forget"], "a"),), (("fail",), ("fail",), "fail"), (("fail",), None), (((("fail",),),),),
-    (((((("fail",),),),),),), (("fail",), ("forget", "a"), ("forget", "a1")),
+    (("", "a"),), ((None, "a"),), ((["forget"], "a"),), (("fail",), ("fail",), "fail"), (("fail",), None),
+    (((("fail",),),),), (((((("fail",),),),),),), (("fail",), ("forget", "a"), ("forget", "a1")),
 )
 NO_STEPS_OF_A_THING = (
     *NO_STEPS, (("save",),), (("save", "A"),), (("save", 0),), (("save", None),), (("save", "a", "b"),),

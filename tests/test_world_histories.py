@@ -2,23 +2,12 @@
 
 import unittest
 
-from helping import (
-    Numbers, alive, block_of, called, count_of, do, form_of, listed, outcome, past, place_of, seen_world, slots_of,
-    target_of, tours, was_asked, watchers_of,
-)
+from helping import Drawing, Numbers, block_of, do, drawn_world, made_with, outcome, seen_world
 from pyheap.blocks import Blocks
-from pyheap.world import World
-
-NAMES = ("a", "b", "c", "d", "e", "f", "g", "h", "i", "jj", "kkkkkk")
-NO_DEEDS = (
-    ("let", "a", "x"), ("let", "A", "a"), ("forget", "x"), ("put", "a", 8, "a"), ("put", "a", 0, "x"),
-    ("put", "a", True, "b"), ("take", "a", "b", 8), ("take", "", "b", 0), ("take", "a", "b", None), ("ask", "a", "x"), ("ask", 0, "a"),
-    ("weaken", "a", "b", (("save", "a"),)), ("weaken", "a", "x", ()), ("weaken", "a", "b", ["fail"]),
-    ("collect", 3), ("collect", False), ("bounds", 1, 1000, 1), ("bounds", 1, 1, None), ("switch", 1), ("switch", None),
-    ("make", "a", "weak", (), (), 0), ("make", "a", "row", ("x",), (), 0), ("make", "a", "leaf", (None,), (), 0),
-    ("make", "a", "row", (), (("clear", 8),), 0), ("make", "a", "row", (), (), 1), ("make", "a", "leaf", (), (), 2001),
-    ("make", "a1", "leaf", (), (), 0), ("make", "a", "row", (None,) * 9, (), 0),
+from pyheap.watching import (
+    alive, called, count_of, form_of, listed, past, place_of, slots_of, target_of, tours, was_asked, watchers_of,
 )
+from pyheap.world import World
 
 
 class Refused(Exception):
@@ -411,124 +400,6 @@ class Model:
             "deeds": self.deeds,
             "blocks": self.blocks.live(),
         }
-
-
-class Drawing:
-    """Deeds drawn by what is there: rings, steps, weak things, collections, and some that are refused."""
-
-    def __init__(self, start, *, steps=True, freezing=True):
-        self.numbers = Numbers(start)
-        self.has_steps = steps
-        self.freezing = freezing
-        # With such bounds collections come by themselves all the time.
-        self.waiting = [("bounds", 1 + start % 4, start % 3, start % 2)] if start % 3 else []
-
-    def name(self):
-        return self.numbers.one_of(NAMES)
-
-    def known(self, world, *forms):
-        """A name that names something, of these forms if there is such a one; any name where there is none."""
-        names = [name for name, number in called(world) if not forms or form_of(world, number) in forms]
-        return self.numbers.one_of(names) if names else self.name()
-
-    def steps(self, words):
-        if not self.has_steps or self.numbers.below(2):
-            return ()
-        return tuple(self.step(self.numbers.one_of(words)) for _ in range(1 + self.numbers.below(3)))
-
-    def step(self, word):
-        if word in ("fail", "collect"):
-            return (word,)
-        return (word, self.numbers.below(4) if word == "clear" else self.name())
-
-    def make(self, world):
-        form = self.numbers.one_of(("leaf", "row", "row", "row", "fixed"))
-        many = 0 if form == "leaf" else 1 + self.numbers.below(3) - (self.numbers.below(6) == 0)
-        holding = tuple(None if self.numbers.below(4) == 0 else self.known(world) for _ in range(many))
-        if not called(world):
-            holding = (None,) * many
-        extra = self.numbers.one_of((0, 1, 17, 600)) if form == "leaf" else 0
-        steps = self.steps(("save", "save", "forget", "forget", "clear", "clear", "fail", "collect"))
-        return ("make", self.name(), form, holding, steps, extra)
-
-    def put(self, world):
-        name = self.known(world, "row")
-        slots = [slots_of(world, number) for other, number in called(world) if other == name]
-        at = self.numbers.below(max(1, len(slots[0]))) if slots else 0
-        return ("put", name, at, self.numbers.one_of((None, self.known(world), self.known(world), name)))
-
-    def take(self, world):
-        name = self.known(world, "row", "fixed")
-        return ("take", self.name(), name, self.numbers.below(3))
-
-    def lost_ring(self, world):
-        """Deeds that lose a ring of some rows, with weak things, steps and other things on it."""
-        names = self.numbers.mixed(NAMES)
-        rows, others = names[:1 + self.numbers.below(4)], names[4:]
-        words = ("save", "clear", "clear", "clear", "forget", "fail", "collect")
-        deeds = [("make", name, "row", (None, None), self.steps(words), 0) for name in rows]
-        deeds += [("put", name, 0, rows[at - 1]) for at, name in enumerate(rows)]
-        for name in rows:
-            draw = self.numbers.below(5)
-            if draw == 0:
-                deeds.append(("make", others[0], "fixed", (name, self.numbers.one_of(rows)), self.steps(words), 0))
-                deeds += [("put", name, 1, others[0]), ("forget", others[0])]
-            if draw == 1:
-                deeds.append(("weaken", others[1], name, self.steps(("forget", "forget", "fail", "collect"))))
-            if draw == 2:
-                deeds.append(("weaken", others[2], name, self.steps(("forget", "forget", "fail", "collect"))))
-                deeds += [("put", self.numbers.one_of(rows), 1, others[2]), ("forget", others[2])]
-            if draw == 3:
-                deeds.append(("put", name, 1, self.numbers.one_of(names)))
-        deeds += [("forget", name) for name in rows]
-        if self.numbers.below(3):
-            deeds.append(("collect", self.numbers.below(3)))
-        return deeds
-
-    def deed(self, world):
-        if not self.waiting and self.numbers.below(20) == 0:
-            self.waiting = self.lost_ring(world)
-        if self.waiting:
-            return self.waiting.pop(0)
-        draw = self.numbers.below(100)
-        if draw < 28:
-            return self.make(world)
-        if draw < 51:
-            return self.put(world)
-        if draw < 65:
-            return ("forget", self.known(world))
-        if draw < 67:
-            return ("let", self.name(), self.known(world))
-        if draw < 69:
-            return self.take(world)
-        if draw < 82:
-            words = ("forget", "forget", "forget", "collect", "fail")
-            return ("weaken", self.name(), self.known(world, "leaf", "row", "fixed"), self.steps(words))
-        if draw < 85:
-            return ("ask", self.name(), self.known(world, "weak"))
-        if draw < 92:
-            return ("collect", self.numbers.below(3))
-        if draw < 94:
-            return ("bounds", self.numbers.below(6), self.numbers.below(3), self.numbers.below(3))
-        if draw < 95:
-            return ("switch", self.numbers.below(3) > 0)
-        if draw < 97 and self.freezing:
-            return self.numbers.one_of((("freeze",), ("thaw",), ("thaw",)))
-        return self.numbers.one_of(NO_DEEDS)
-
-
-def made_with(at):
-    pool_bytes, pool_count = ((1072, 1), (1072, 2), (4096, 16), (1088, 3))[at % 4]
-    return {"pool_bytes": pool_bytes, "pool_count": pool_count, "nesting": (2, 3, 50, 2, 4)[at % 5]}
-
-
-def drawn_world(at, length, **named):
-    """A world with so many deeds, some of them refused."""
-    world = World(**made_with(at))
-    drawing = Drawing(at, **named)
-    for _ in range(length):
-        outcome(do, world, drawing.deed(world))
-    return world
 
 
 class BesideTheModel(unittest.TestCase):
