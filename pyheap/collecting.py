@@ -5,10 +5,9 @@ Each function that takes a heap and a subject is a task: what it plans is done w
 
 from pyheap.dying import begin_asking, plan_calls
 from pyheap.graphs import sift
-from pyheap.heaps import LIST_COUNT, LOST
-from pyheap.things import FIXED, LEAF, ROW, WEAK
+from pyheap.heaps import LIST_COUNT, LOST, OLDEST
+from pyheap.things import FIXED, ROW, WEAK
 
-OLDEST = 2
 MIDDLE = 1
 
 

@@ -3,10 +3,9 @@
 Each function is a task, or a part of one: what it plans is done when it has come to its end.
 """
 
+from pyheap.heaps import OLDEST
 from pyheap.steps import CLEAR, COLLECT, FAIL, FORGET, SAVE
 from pyheap.things import LEAF, ROW
-
-OLDEST = 2
 
 
 def let_go(heap, number):

@@ -6,6 +6,7 @@ from pyheap.sizes import is_whole_within
 from pyheap.things import LEAF
 
 LIST_COUNT = 3
+OLDEST = 2
 FROZEN = 3
 # What a collection found lost is in no list that is told, but is kept in order like these.
 LOST = 4

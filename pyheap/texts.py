@@ -104,8 +104,9 @@ def read_parts(texts, readers):
     if len(texts) != len(readers):
         raise NoText("a line has more or fewer parts than its word tells")
     parts = []
-    for at, reader in enumerate(readers):
-        parts.append(reader(texts[at]))
+    for at, text in enumerate(texts):
+        reader = readers[at]
+        parts.append(reader(text))
     return parts
 
 

@@ -3,7 +3,7 @@
 from pyheap.coming import bring
 from pyheap.dying import fill_slot, forget_name, give_name
 from pyheap.errors import Bare, Gone, NoForm, NoNumber, NoRow, NoSize, NoSlot, NoTarget, NoThing, NotWeak
-from pyheap.heaps import FROZEN, LIST_COUNT, Heap
+from pyheap.heaps import FROZEN, LIST_COUNT, OLDEST, Heap
 from pyheap.names import check_name, is_name
 from pyheap.running import run
 from pyheap.sizes import is_whole_within
@@ -13,7 +13,6 @@ from pyheap.things import FIXED, LEAF, ROW, WEAK, Thing
 GREATEST_SLOT_COUNT = 8
 GREATEST_EXTRA = 2000
 GREATEST_BOUND = 999
-OLDEST = 2
 
 
 def check_form(thing):
@@ -154,14 +153,16 @@ class World:
         bounds = (first, second, third)
         if not all([is_whole_within(bound, 0, GREATEST_BOUND) for bound in bounds]):
             raise NoNumber("a bound is a whole number from 0 to 999")
-        self.heap.bounds = bounds
+        heap = self.heap
+        heap.bounds = bounds
         self.deeds_done.append(("bounds", first, second, third))
 
     def switch(self, is_on):
         """Let collections come by themselves, or not; told is whether they did."""
         check_truth(is_on)
-        was_on = self.heap.is_on
-        self.heap.is_on = is_on
+        heap = self.heap
+        was_on = heap.is_on
+        heap.is_on = is_on
         self.deeds_done.append(("switch", is_on))
         return was_on
 

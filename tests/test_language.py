@@ -226,6 +226,22 @@ class Language(unittest.TestCase):
                 read = {node.attr for node in source.of(ast.Attribute) if isinstance(node.ctx, ast.Load)}
                 self.assertLessEqual(read - called, stored)
 
+    def test_attributes_are_assigned_through_local_names(self):
+        for source in self.sources:
+            with self.subTest(file=source.path.name):
+                for node in source.of(ast.Attribute):
+                    if isinstance(node.ctx, ast.Store):
+                        self.assertIsInstance(node.value, ast.Name, ast.unparse(node))
+
+    def test_methods_that_python_calls_assign_nothing(self):
+        for source in self.sources:
+            with self.subTest(file=source.path.name):
+                for node in source.of(ast.FunctionDef):
+                    if node.name in DOUBLE_UNDERSCORE - {"__init__"}:
+                        self.assertIsInstance(node.body[-1], ast.Return)
+                        stored = [part for part in ast.walk(node) if isinstance(getattr(part, "ctx", None), ast.Store)]
+                        self.assertEqual(stored, [])
+
     def test_is_stands_only_beside_none_and_truths(self):
         for source in self.sources:
             with self.subTest(file=source.path.name):
