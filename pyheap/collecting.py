@@ -136,3 +136,13 @@ def list_that_is_due(heap):
     if over[-1] == OLDEST and heap.kept_middle < heap.kept_oldest // 4:
         return over[-2]
     return over[-1]
+
+
+COLLECTING_TASKS = {
+    "collect": start_collection,
+    "ask lost": ask_lost,
+    "sift again": sift_again,
+    "break up": break_up,
+    "settle": settle,
+    "end collection": end_collection,
+}

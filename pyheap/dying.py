@@ -164,3 +164,18 @@ def do_step_with(heap, number, word, what):
         thing = heap.things[number]
         if thing.form == ROW and thing.has_slot(what):
             fill_slot(heap, number, what, None)
+
+
+# Dying may begin a collection, and a collection lets things die. Two files may not import from each other, so
+# tasks are planned by their words, and running alone knows both tables.
+DYING_TASKS = {
+    "let go": let_go,
+    "die": die,
+    "do steps": do_steps,
+    "judge": judge,
+    "part": part,
+    "call": call,
+    "empty": empty,
+    "free": free,
+    "die aside": die_aside,
+}

@@ -83,6 +83,7 @@ def read_steps(text):
     return tuple([read_step(part) for part in text.split(";")])
 
 
+MADE_WITH_READERS = (read_number, read_number, read_number)
 READERS = {
     "make": (read_as_it_is, read_as_it_is, read_holding, read_steps, read_number),
     "let": (read_as_it_is, read_as_it_is),
@@ -122,7 +123,7 @@ def read_deed(line):
 def read_lines(lines):
     """The world that these lines tell, without the line feeds."""
     word, *texts = lines[0].split(" ")
-    pool_bytes, pool_count, nesting = read_parts(texts, (read_number, read_number, read_number))
+    pool_bytes, pool_count, nesting = read_parts(texts, MADE_WITH_READERS)
     deeds = [read_deed(line) for line in lines[1:]]
     return replayed(deeds, pool_bytes=pool_bytes, pool_count=pool_count, nesting=nesting)
 
