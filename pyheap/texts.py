@@ -122,7 +122,7 @@ def read_deed(line):
 
 def read_lines(lines):
     """The world that these lines tell, without the line feeds."""
-    word, *texts = lines[0].split(" ")
+    texts = lines[0].split(" ")[1:]
     pool_bytes, pool_count, nesting = read_parts(texts, MADE_WITH_READERS)
     deeds = [read_deed(line) for line in lines[1:]]
     return replayed(deeds, pool_bytes=pool_bytes, pool_count=pool_count, nesting=nesting)

@@ -37,7 +37,8 @@ CLASSES = {
         "make(self, name, form, *, holding=(), stepping=(), extra=0)", "let(self, name, other)", "forget(self, name)",
         "put(self, name, at, other)", "take(self, name, other, at)", "weaken(self, name, other, *, stepping=())",
         "ask(self, name, other)", "collect(self, upto=2)", "set_bounds(self, first, second, third)",
-        "switch(self, is_on)", "freeze(self)", "thaw(self)", "deeds(self)", "__eq__(self, other)", "__len__(self)", "__repr__(self)",
+        "switch(self, is_on)", "freeze(self)", "thaw(self)", "deeds(self)", "__eq__(self, other)", "__len__(self)",
+        "__repr__(self)",
     ),
 }
 ERRORS = (
